@@ -1,0 +1,1 @@
+"""Latebyfew: delivery rounds that hold though some legs take longer."""

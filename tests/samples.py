@@ -1,0 +1,84 @@
+"""Towns, odd values and changes of values that several tests use."""
+
+from random import Random
+
+TOWN = (
+    ((0, 9, 1, 1, 0, 5), (4, 7, 1, 1, 0, 5)),
+    ((0, 1, 2, 4, 3), (0, 2, 3, 3, 4), (1, 0, 2, 3, 3), (1, 2, 1, 3, 1), (2, 0, 3, 5, 4), (2, 1, 1, 1, 1)),
+    20,
+    2,
+)
+EMPTY = ((), (), 3, 2)
+ONE = (((1, 1, 0, 1, 0, 1),), ((0, 1, 0, 1, 1), (1, 0, 1, 1, 0)), 1, 1)
+
+
+def full_town(many):
+    """A town of that many places in which every leg is listed and all fits."""
+    places = tuple((k, 90 + k, k, 1, 2, 3 * k) for k in range(many))
+    spots = range(many + 1)
+    legs = tuple((a, b, a + b, a + 2 * b, 7 * a + b) for a in spots for b in spots if a != b)
+    return (places, legs, 99, 2 * many)
+
+
+SIX = full_town(6)
+TOWNS = (TOWN, EMPTY, ONE, SIX)
+
+# Values of all kinds, none of them a town, a round, a day or a text of a town.
+ODD = (
+    None, True, False, 0, 1, -1, 10 ** 39, "", "town", "town 3 2\n", (), [], {}, ((),), [()], (None,),
+    (True,), ([],), ({},), ((), (), 3), [(), (), 3, 2], ((), (), 3, 2, 1), ((((((((),),),),),),),),
+    {"places": ()}, ((), (), "3", 2), ((), (), None, 2), ("", "", 3, 2), ({}, {}, 3, 2),
+)
+
+
+def random_town(seed):
+    """A town of up to four places with tight windows and loads."""
+    draw = Random(seed)
+    many = draw.randint(0, 4)
+    places = []
+    for _ in range(many):
+        start = draw.randint(0, 12)
+        places.append((start, start + draw.randint(0, 8), draw.randint(0, 3), draw.randint(0, 3),
+                       draw.randint(0, 3), draw.randint(0, 9)))
+    legs = []
+    for a in range(many + 1):
+        for b in range(many + 1):
+            if a != b and draw.random() < 0.8:
+                usual = draw.randint(0, 5)
+                legs.append((a, b, usual, usual + draw.randint(0, 4), draw.randint(0, 9)))
+    return (tuple(places), tuple(legs), draw.randint(5, 30), draw.randint(2, 7))
+
+
+def changed(value, old, new):
+    """All values made from value by putting new in the place of one part old."""
+    if isinstance(value, tuple):
+        for k, part in enumerate(value):
+            for other in changed(part, old, new):
+                yield value[:k] + (other,) + value[k + 1:]
+    elif value == old and isinstance(value, type(old)):
+        yield new
+
+
+def with_lists(value):
+    """All values made from value by a list in the place of one tuple."""
+    if isinstance(value, tuple):
+        yield list(value)
+        for k, part in enumerate(value):
+            for other in with_lists(part):
+                yield value[:k] + (other,) + value[k + 1:]
+
+
+def with_bools(value):
+    """All values made from value by a bool in the place of one 0 or 1."""
+    yield from changed(value, 0, False)
+    yield from changed(value, 1, True)
+
+
+def resized(value):
+    """All values made from value by leaving one part out or doubling it."""
+    if isinstance(value, tuple):
+        for k, part in enumerate(value):
+            yield value[:k] + value[k + 1:]
+            yield value[:k] + (part,) + value[k:]
+            for other in resized(part):
+                yield value[:k] + (other,) + value[k + 1:]
