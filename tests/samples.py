@@ -55,7 +55,7 @@ def changed(value, old, new):
         for k, part in enumerate(value):
             for other in changed(part, old, new):
                 yield value[:k] + (other,) + value[k + 1:]
-    elif value == old and isinstance(value, type(old)):
+    elif value == old and type(value) is type(old):
         yield new
 
 

@@ -4,8 +4,11 @@ import copy
 import inspect
 import unittest
 
-from latebyfew import errors, rounds, towns
+from latebyfew import compared, errors, machines, rounds, sure, towns
 from samples import EMPTY, ODD, ONE, SIX, TOWN, with_bools, with_lists
+
+MACHINE = ((False, ((1, 1), (2, 1))), (True, ()))
+OTHER = ((False, ((2, 1),)), (True, ()))
 
 INTERFACE = (
     (towns, "is_town", ("thing",)),
@@ -19,8 +22,35 @@ INTERFACE = (
     (rounds, "begins", ("town", "tour", "day")),
     (rounds, "broken", ("town", "tour", "day")),
     (rounds, "late_legs", ("town", "tour", "day")),
+    (sure, "worst_begins", ("town", "tour", "g")),
+    (sure, "judge_sure", ("town", "tour", "g")),
+    (sure, "sure_holds", ("town", "tour", "g", "thing")),
+    (sure, "is_sure", ("town", "tour", "g")),
+    (sure, "strength", ("town", "tour")),
+    (machines, "sure_machine", ("town", "g")),
+    (machines, "is_machine", ("thing",)),
+    (machines, "is_least", ("machine",)),
+    (machines, "least", ("machine",)),
+    (machines, "accepts", ("machine", "word")),
+    (machines, "count", ("machine",)),
+    (machines, "word_at", ("machine", "k")),
+    (machines, "place_of", ("machine", "word")),
+    (compared, "parted", ("one", "two")),
+    (compared, "is_within", ("one", "two")),
+    (compared, "joined", ("one", "two", "how")),
+    (compared, "parting_round", ("one", "two", "g")),
+    (compared, "is_surer", ("one", "two", "g")),
+    (compared, "sure_counts", ("town",)),
 )
-GOOD = {"town": TOWN, "tour": (1, 2), "day": (4, 3, 3), "text": "town 3 2", "thing": TOWN}
+GOOD = {"town": TOWN, "tour": (1, 2), "day": (4, 3, 3), "text": "town 3 2", "thing": TOWN, "g": 2,
+        "machine": MACHINE, "word": (2,), "k": 1, "one": MACHINE, "two": OTHER, "how": "first"}
+OF_TOWNS = {**GOOD, "one": TOWN, "two": ONE}
+
+
+def good_arguments(name, parameters):
+    """Valid arguments of a function, by its parameters."""
+    good = OF_TOWNS if name in ("parting_round", "is_surer") else GOOD
+    return {word: good[word] for word in parameters}
 
 
 class Interface(unittest.TestCase):
@@ -40,19 +70,28 @@ class Interface(unittest.TestCase):
         for module, name, parameters in INTERFACE:
             with self.subTest(name):
                 function = getattr(module, name)
-                by_name = {word: GOOD[word] for word in parameters}
-                self.assertEqual(function(*by_name.values()), function(**by_name))
+                by_name = good_arguments(name, parameters)
+                expected = function(*by_name.values())
+                self.assertEqual(function(**by_name), expected)
+                self.assertEqual(function(**dict(reversed(by_name.items()))), expected)
 
     def test_the_same_call_gives_the_same(self):
         for module, name, parameters in INTERFACE:
             function = getattr(module, name)
-            given = [GOOD[word] for word in parameters]
-            self.assertEqual(function(*given), function(*given))
+            given = good_arguments(name, parameters).values()
+            expected = function(*given)
+            for odd in ODD:
+                try:
+                    function(*[odd for _ in parameters])
+                except errors.LateError:
+                    pass
+            self.assertEqual(function(*given), expected)
 
     def test_arguments_are_not_changed(self):
         for module, name, parameters in INTERFACE:
-            for odd in ODD:
-                given = [GOOD[word] for word in parameters[:-1]] + [copy.deepcopy(odd)]
+            # A table for a budget of 10 ** 39 would be too large.
+            for odd in [odd for odd in ODD if odd != 10 ** 39 or parameters[-1] != "g"]:
+                given = [*good_arguments(name, parameters).values()][:-1] + [copy.deepcopy(odd)]
                 before = copy.deepcopy(given)
                 try:
                     getattr(module, name)(*given)
@@ -76,6 +115,15 @@ class Interface(unittest.TestCase):
             self.assertIsInstance(towns.is_town(thing), bool)
             self.assertIsInstance(rounds.is_round(TOWN, thing), bool)
             self.assertIsInstance(rounds.is_day(TOWN, (1,), thing), bool)
+            self.assertIsInstance(sure.sure_holds(TOWN, (1,), 1, thing), bool)
+            self.assertIsInstance(machines.is_machine(thing), bool)
+        for g in range(4):
+            self.assertIsInstance(sure.is_sure(TOWN, (1, 2), g), bool)
+            self.assertIsInstance(compared.is_surer(TOWN, ONE, g), bool)
+        for machine in (MACHINE, OTHER):
+            self.assertIsInstance(machines.is_least(machine), bool)
+            self.assertIsInstance(machines.accepts(machine, (1,)), bool)
+            self.assertIsInstance(compared.is_within(machine, OTHER), bool)
 
 
 if __name__ == "__main__":
