@@ -2,7 +2,7 @@
 
 from latebyfew.errors import BadMachine, BadNumber, BadWord
 from latebyfew.rounds import fits
-from latebyfew.sure import check_budget, depot_row, next_row
+from latebyfew.sure import check_budget, depot_row, next_row, useful_budget
 from latebyfew.towns import SHUT, check_town, legs_by_ends, place_row
 from latebyfew.values import is_count, is_integer
 
@@ -141,8 +141,7 @@ def sure_machine(town, g):
 def machine_of(town, g):
     """The same, for what surely are a town and a budget."""
     classes = new_classes()
-    # No round has more legs than that which could be late.
-    row = depot_row(min(g, len(town[0]) + 1))
+    row = depot_row(useful_budget(len(town[0]), g))
     start = class_of_path(classes, town, legs_by_ends(town), (), row)
     return numbered(classes, start)
 

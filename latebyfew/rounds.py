@@ -3,7 +3,7 @@
 from latebyfew.errors import BadDay, BadRound
 from latebyfew.towns import BRING, COST, FETCH, LONGEST, OPEN, SERVICE, SHUT, USUAL
 from latebyfew.towns import check_town, legs_by_ends, place_row
-from latebyfew.values import is_integer
+from latebyfew.values import is_ascending, is_integer
 
 
 def is_round(town, thing):
@@ -26,6 +26,11 @@ def are_unlike_places(town, thing):
     if not isinstance(thing, tuple) or not all([is_integer(p) and 1 <= p <= many for p in thing]):
         return False
     return len(set(thing)) == len(thing)
+
+
+def are_ascending_places(town, thing):
+    """Whether any value is an ascending tuple of places of the town."""
+    return are_unlike_places(town, thing) and is_ascending(thing)
 
 
 def ends_of(tour):
@@ -86,6 +91,11 @@ def rounds_from(town, legs, path):
 def cost(town, tour):
     """The sum of the costs of the legs of a round."""
     check_round(town, tour)
+    return cost_of(town, tour)
+
+
+def cost_of(town, tour):
+    """The same, for what surely is a round of a town."""
     return sum([leg[COST] for leg in legs_of(town, tour)])
 
 

@@ -142,9 +142,17 @@ def day_with(town, tour, late):
 def is_sure(town, tour, g):
     """Whether no day with at most g late legs breaks a stop of the round."""
     check_round_and_budget(town, tour, g)
-    found = strength_of(town, tour)
-    # More late legs than it has no round can have.
-    return found is not None and min(g, len(tour) + 1) <= found
+    return is_enough(strength_of(town, tour), tour, g)
+
+
+def is_enough(most, tour, g):
+    """Whether a round of that strength is sure for g."""
+    return most is not None and useful_budget(len(tour), g) <= most
+
+
+def useful_budget(many, g):
+    """How many legs of a round of that many places can be late: no more than it has."""
+    return min(g, many + 1)
 
 
 def strength(town, tour):

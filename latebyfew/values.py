@@ -1,4 +1,4 @@
-"""What integers and rows of integers are: bools and lists do not count."""
+"""What integers and rows of them are: bools and lists do not count."""
 
 
 def is_integer(thing):
@@ -14,3 +14,28 @@ def is_count(thing):
 def is_count_row(thing, size):
     """Whether thing is a tuple of just that many integers from 0 on."""
     return isinstance(thing, tuple) and len(thing) == size and all([is_count(part) for part in thing])
+
+
+def is_integer_or_none(thing):
+    """Whether thing is an integer or None."""
+    return thing is None or is_integer(thing)
+
+
+def is_ascending(row):
+    """Whether each part of a row is above the one before."""
+    return all([row[k] < row[k + 1] for k in range(len(row) - 1)])
+
+
+def is_at_most(one, other):
+    """Whether one number is at most the other one; None counts as above every number."""
+    return other is None or (one is not None and one <= other)
+
+
+def least_of_sums(sums):
+    """The least of a list of numbers and None, which counts as above every number."""
+    return min([number for number in sums if number is not None], default=None)
+
+
+def sum_or_none(one, other):
+    """The sum of two numbers; None if one of them is None."""
+    return None if one is None or other is None else one + other

@@ -49,6 +49,32 @@ def random_town(seed):
     return (tuple(places), tuple(legs), draw.randint(5, 30), draw.randint(2, 7))
 
 
+def roomy_town(seed, many):
+    """A town of that many places with wide windows, of which several paths and rounds hold."""
+    draw = Random(1000 + seed)
+    places = []
+    for _ in range(many):
+        start = draw.randint(0, 9)
+        places.append((start, start + draw.randint(3, 25), draw.randint(0, 2), draw.randint(0, 3),
+                       draw.randint(0, 3), draw.randint(0, 12)))
+    legs = []
+    for a in range(many + 1):
+        for b in range(many + 1):
+            if a != b and draw.random() < 0.9:
+                usual = draw.randint(0, 5)
+                legs.append((a, b, usual, usual + draw.randint(0, 4), draw.randint(0, 9)))
+    return (tuple(places), tuple(legs), draw.randint(15, 45), draw.randint(3, 9))
+
+
+# The town of the examples from part 7 on.
+PAIR = (
+    ((0, 10, 2, 1, 0, 5), (0, 8, 2, 1, 0, 7)),
+    ((0, 1, 3, 5, 3), (0, 2, 4, 4, 4), (1, 0, 3, 4, 3), (1, 2, 2, 4, 2), (2, 0, 4, 6, 4), (2, 1, 2, 3, 4)),
+    20,
+    2,
+)
+
+
 def changed(value, old, new):
     """All values made from value by putting new in the place of one part old."""
     if isinstance(value, tuple):

@@ -4,7 +4,7 @@ import copy
 import inspect
 import unittest
 
-from latebyfew import compared, errors, machines, rounds, sure, towns
+from latebyfew import compared, errors, labels, machines, plans, rounds, slack, sure, towns
 from samples import EMPTY, ODD, ONE, SIX, TOWN, with_bools, with_lists
 
 MACHINE = ((False, ((1, 1), (2, 1))), (True, ()))
@@ -41,15 +41,45 @@ INTERFACE = (
     (compared, "parting_round", ("one", "two", "g")),
     (compared, "is_surer", ("one", "two", "g")),
     (compared, "sure_counts", ("town",)),
+    (slack, "leg_room", ("town", "tour", "g", "at")),
+    (slack, "latest_start", ("town", "tour", "g")),
+    (slack, "floats", ("town", "tour", "g")),
+    (labels, "is_path", ("town", "thing")),
+    (labels, "label_of", ("town", "g", "prices", "path")),
+    (labels, "is_label", ("town", "g", "thing")),
+    (labels, "extended", ("town", "g", "prices", "label", "place")),
+    (labels, "closed_cost", ("town", "g", "label")),
+    (labels, "does_dominate", ("town", "g", "one", "other")),
+    (labels, "judge_least", ("town", "g", "prices")),
+    (labels, "least_holds", ("town", "g", "prices", "thing")),
+    (labels, "price_bound", ("town", "g", "vans", "prices")),
+    (plans, "is_plan", ("town", "thing")),
+    (plans, "plan_cost", ("town", "plan")),
+    (plans, "is_sure_plan", ("town", "g", "plan")),
+    (plans, "plan_attack", ("town", "g", "plan")),
+    (plans, "judge_plan", ("town", "g", "vans")),
+    (plans, "plan_holds", ("town", "g", "vans", "thing")),
+    (plans, "staircase", ("town", "vans")),
+    (plans, "sureness", ("town", "vans", "g", "h")),
 )
 GOOD = {"town": TOWN, "tour": (1, 2), "day": (4, 3, 3), "text": "town 3 2", "thing": TOWN, "g": 2,
-        "machine": MACHINE, "word": (2,), "k": 1, "one": MACHINE, "two": OTHER, "how": "first"}
-OF_TOWNS = {**GOOD, "one": TOWN, "two": ONE}
+        "machine": MACHINE, "word": (2,), "k": 1, "one": MACHINE, "two": OTHER, "how": "first", "at": 1,
+        "prices": (3, -4), "path": (2, 1), "label": (2, (2,), (4, 4, 4), 0, 1, 8), "place": 1, "vans": 2,
+        "plan": ((1, 2),), "h": 3}
+# Where another argument is a good one than elsewhere.
+OTHERS = {
+    "parting_round": {"one": TOWN, "two": ONE},
+    "is_surer": {"one": TOWN, "two": ONE},
+    "does_dominate": {"one": (2, (2,), (4, 4, 4), 0, 1, 8), "other": (2, (1, 2), (4, 4, 5), 0, 1, 8)},
+    "leg_room": {"g": 1},
+    "latest_start": {"g": 1},
+    "floats": {"g": 1},
+}
 
 
 def good_arguments(name, parameters):
     """Valid arguments of a function, by its parameters."""
-    good = OF_TOWNS if name in ("parting_round", "is_surer") else GOOD
+    good = {**GOOD, **OTHERS.get(name, {})}
     return {word: good[word] for word in parameters}
 
 
@@ -90,7 +120,7 @@ class Interface(unittest.TestCase):
     def test_arguments_are_not_changed(self):
         for module, name, parameters in INTERFACE:
             # A table for a budget of 10 ** 39 would be too large.
-            for odd in [odd for odd in ODD if odd != 10 ** 39 or parameters[-1] != "g"]:
+            for odd in [odd for odd in ODD if odd != 10 ** 39 or parameters[-1] not in ("g", "vans")]:
                 given = [*good_arguments(name, parameters).values()][:-1] + [copy.deepcopy(odd)]
                 before = copy.deepcopy(given)
                 try:
@@ -117,7 +147,14 @@ class Interface(unittest.TestCase):
             self.assertIsInstance(rounds.is_day(TOWN, (1,), thing), bool)
             self.assertIsInstance(sure.sure_holds(TOWN, (1,), 1, thing), bool)
             self.assertIsInstance(machines.is_machine(thing), bool)
+            self.assertIsInstance(labels.is_path(TOWN, thing), bool)
+            self.assertIsInstance(labels.is_label(TOWN, 0, thing), bool)
+            self.assertIsInstance(labels.least_holds(TOWN, 0, (1, 2), thing), bool)
+            self.assertIsInstance(plans.is_plan(TOWN, thing), bool)
+            self.assertIsInstance(plans.is_plan(TOWN, (thing,)), bool)
+            self.assertIsInstance(plans.plan_holds(TOWN, 0, 1, thing), bool)
         for g in range(4):
+            self.assertIsInstance(plans.is_sure_plan(TOWN, g, ((1, 2),)), bool)
             self.assertIsInstance(sure.is_sure(TOWN, (1, 2), g), bool)
             self.assertIsInstance(compared.is_surer(TOWN, ONE, g), bool)
         for machine in (MACHINE, OTHER):
