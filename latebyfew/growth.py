@@ -88,6 +88,16 @@ class Growth:
         home = next_row(self._town, self._legs[ends], label[TIMES])
         return label[GAINED] + self._added[ends] if home[-1] <= self._town[2] else None
 
+    def closed_ones(self, labels):
+        """The closed costs of those of the labels that can be closed."""
+        found = [self.closed(label) for label in labels]
+        return [number for number in found if number is not None]
+
+    def least_closed(self, pairs):
+        """The least closed cost of labels with their paths, and such a path; None if none can be closed."""
+        found = [(self.closed(label), path) for label, path in pairs]
+        return min([pair for pair in found if pair[0] is not None], default=None)
+
     def group(self, label):
         """What a label and all that dominate it have in common."""
         return label[:TIMES] if self._is_strict else label[:VISITED]

@@ -106,14 +106,8 @@ def judge_least(town, g, prices):
     growth = growth_of(town, g, prices)
     found = growth.grown()
     table = tuple([label for label, _ in found])
-    least = least_closed(growth, found)
+    least = growth.least_closed(found)
     return ("none", table) if least is None else ("least", least[1], table)
-
-
-def least_closed(growth, found):
-    """The least closed cost of labels, with the path of one that has it; None if none can be closed."""
-    closed = [(growth.closed(label), path) for label, path in found]
-    return min([pair for pair in closed if pair[0] is not None], default=None)
 
 
 def least_holds(town, g, prices, thing):
@@ -124,13 +118,13 @@ def least_holds(town, g, prices, thing):
         return False
     growth = growth_of(town, g, prices)
     if len(thing) == 2 and thing[0] == "none":
-        return is_closed_table(town, g, growth, thing[1]) and closed_costs(growth, thing[1]) == []
+        return is_closed_table(town, g, growth, thing[1]) and growth.closed_ones(thing[1]) == []
     if len(thing) != 3 or thing[0] != "least":
         return False
     if not is_tour(town, thing[1]) or not is_sure(town, thing[1], g) or not is_closed_table(town, g, growth, thing[2]):
         return False
     least = reduced_cost(town, prices, thing[1])
-    return all([number >= least for number in closed_costs(growth, thing[2])])
+    return all([number >= least for number in growth.closed_ones(thing[2])])
 
 
 def is_closed_table(town, g, growth, thing):
@@ -138,12 +132,6 @@ def is_closed_table(town, g, growth, thing):
     if not isinstance(thing, tuple) or not all([is_label_row(town, g, label) for label in thing]):
         return False
     return growth.is_closed(thing)
-
-
-def closed_costs(growth, table):
-    """The closed costs of the labels of a table that can be closed."""
-    found = [growth.closed(label) for label in table]
-    return [number for number in found if number is not None]
 
 
 def price_bound(town, g, vans, prices):
@@ -154,5 +142,5 @@ def price_bound(town, g, vans, prices):
     if len(prices) == 0:
         return 0
     growth = growth_of(town, useful_budget(len(prices), g), prices)
-    least = least_closed(growth, growth.grown())
+    least = growth.least_closed(growth.grown())
     return None if least is None else sum(prices) + vans * min(0, least[0])

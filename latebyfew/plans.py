@@ -6,7 +6,7 @@ from latebyfew.rounds import are_ascending_places, cost_of, is_tour, rounds
 from latebyfew.sure import check_budget, is_enough, is_sure, judge_sure, strength_of, useful_budget
 from latebyfew.towns import check_town
 from latebyfew.values import is_ascending, is_at_most, is_count, is_integer, is_integer_or_none
-from latebyfew.values import least_of_sums, sum_or_none
+from latebyfew.values import least_number, sum_or_none
 
 
 def is_plan(town, thing):
@@ -101,7 +101,7 @@ def splits_of_sets(town, cheapest):
 
 def least_sum(bounds, parted, number):
     """The least cost of a round and the bound of the other places with one van fewer; None if there is none."""
-    return least_of_sums([sum_or_none(pair[0], bounds[(rest, number - 1)]) for pair, rest in parted])
+    return least_number([sum_or_none(pair[0], bounds[(rest, number - 1)]) for pair, rest in parted])
 
 
 def least_bounds(town, cheapest, vans):

@@ -9,6 +9,7 @@ SHUT = 1
 SERVICE = 2
 BRING = 3
 FETCH = 4
+PENALTY = 5
 PLACE_PARTS = 6
 
 # The same for a leg, behind its two ends.
@@ -91,12 +92,23 @@ def read(text):
     if not isinstance(text, str):
         raise BadText(0)
     lines = text.split("\n")
-    head = numbers_of(lines[0], "town")
+    town, behind = town_from(lines, 0)
+    if behind < len(lines):
+        raise BadText(behind + 1)
+    return town
+
+
+def town_from(lines, start):
+    """The town whose text the lines from start on are, as far as they go, and the position of the line behind it.
+
+    If no town begins there, it is None and start.
+    """
+    head = numbers_of(lines[start], "town")
     if not is_count_row(head, 2):
-        raise BadText(1)
+        return (None, start)
     places = []
     legs = []
-    for at, line in enumerate(lines[1:], start=2):
+    for line in lines[start + 1:]:
         place = numbers_of(line, "place")
         leg = numbers_of(line, "leg")
         if not legs and is_place_row(place):
@@ -104,8 +116,8 @@ def read(text):
         elif is_leg_row(leg, len(places)) and (not legs or is_behind(leg, legs[-1])):
             legs.append(leg)
         else:
-            raise BadText(at)
-    return (tuple(places), tuple(legs), head[0], head[1])
+            break
+    return ((tuple(places), tuple(legs), head[0], head[1]), start + 1 + len(places) + len(legs))
 
 
 def numbers_of(line, word):

@@ -31,9 +31,14 @@ def is_at_most(one, other):
     return other is None or (one is not None and one <= other)
 
 
-def least_of_sums(sums):
-    """The least of a list of numbers and None, which counts as above every number."""
-    return min([number for number in sums if number is not None], default=None)
+def least_number(numbers):
+    """The least of a list of numbers and None, which counts as above every number; None if there are none."""
+    return min([number for number in numbers if number is not None], default=None)
+
+
+def greatest_number(numbers):
+    """The greatest of one or more numbers and None, which counts as above every number."""
+    return None if None in numbers else max(numbers)
 
 
 def sum_or_none(one, other):

@@ -4,7 +4,8 @@ import copy
 import inspect
 import unittest
 
-from latebyfew import compared, errors, labels, machines, plans, rounds, slack, sure, towns
+from latebyfew import compared, days, desks, errors, games, labels, machines, plans, rounds, slack, sure, towns
+from latebyfew import underway
 from samples import EMPTY, ODD, ONE, SIX, TOWN, with_bools, with_lists
 
 MACHINE = ((False, ((1, 1), (2, 1))), (True, ()))
@@ -61,11 +62,35 @@ INTERFACE = (
     (plans, "plan_holds", ("town", "g", "vans", "thing")),
     (plans, "staircase", ("town", "vans")),
     (plans, "sureness", ("town", "vans", "g", "h")),
+    (games, "is_position", ("town", "thing")),
+    (games, "moves_of", ("town", "position")),
+    (games, "value_of", ("town", "position")),
+    (games, "arrivals", ("town", "position", "move")),
+    (games, "judge_day", ("town", "g", "wishes")),
+    (games, "day_holds", ("town", "g", "wishes", "thing")),
+    (games, "driver_holds", ("town", "thing")),
+    (games, "foe_holds", ("town", "thing")),
+    (days, "follow", ("town", "g", "wishes", "log")),
+    (days, "advice", ("town", "position")),
+    (days, "advised_deed", ("town", "position", "move", "answer")),
+    (days, "luck", ("town", "g", "wishes", "log")),
+    (underway, "is_standing", ("town", "thing")),
+    (underway, "is_sure_order", ("town", "standing", "thing")),
+    (underway, "weight_of", ("town", "standing", "order")),
+    (underway, "judge_rest", ("town", "standing")),
+    (underway, "rest_holds", ("town", "standing", "thing")),
+    (desks, "Desk", ("town",)),
+    (desks, "read_desk", ("text",)),
+)
+METHODS = (
+    ("town", ()), ("marks", ()), ("text", ()), ("copied", ()), ("do", ("deed",)), ("undo", ()), ("redo", ()),
+    ("stairs", ("vans",)), ("dearer", ("word", "vans")),
 )
 GOOD = {"town": TOWN, "tour": (1, 2), "day": (4, 3, 3), "text": "town 3 2", "thing": TOWN, "g": 2,
         "machine": MACHINE, "word": (2,), "k": 1, "one": MACHINE, "two": OTHER, "how": "first", "at": 1,
         "prices": (3, -4), "path": (2, 1), "label": (2, (2,), (4, 4, 4), 0, 1, 8), "place": 1, "vans": 2,
-        "plan": ((1, 2),), "h": 3}
+        "plan": ((1, 2),), "h": 3, "position": (0, 0, 1, (1, 2)), "move": 1, "wishes": (1, 2), "answer": "late",
+        "log": (("go", 1, "late", "pass"),), "standing": (0, 0, 0, 0, (1, 2)), "order": (2, 1)}
 # Where another argument is a good one than elsewhere.
 OTHERS = {
     "parting_round": {"one": TOWN, "two": ONE},
@@ -91,6 +116,16 @@ class Interface(unittest.TestCase):
                 self.assertEqual(tuple(one.name for one in found), parameters)
                 self.assertTrue(all(one.kind == one.POSITIONAL_OR_KEYWORD for one in found))
                 self.assertTrue(all(one.default is one.empty for one in found))
+
+    def test_the_methods_of_a_desk(self):
+        for name, parameters in METHODS:
+            with self.subTest(name):
+                self.assertIn(name, vars(desks.Desk))
+                found = inspect.signature(getattr(desks.Desk(TOWN), name)).parameters.values()
+                self.assertEqual(tuple(one.name for one in found), parameters)
+                self.assertTrue(all(one.kind == one.POSITIONAL_OR_KEYWORD for one in found))
+                self.assertTrue(all(one.default is one.empty for one in found))
+        self.assertEqual(desks.Desk.__bases__, (object,))
 
     def test_defined_in_their_file(self):
         for module, name, _ in INTERFACE:
@@ -153,6 +188,14 @@ class Interface(unittest.TestCase):
             self.assertIsInstance(plans.is_plan(TOWN, thing), bool)
             self.assertIsInstance(plans.is_plan(TOWN, (thing,)), bool)
             self.assertIsInstance(plans.plan_holds(TOWN, 0, 1, thing), bool)
+            self.assertIsInstance(games.is_position(TOWN, thing), bool)
+            self.assertIsInstance(games.day_holds(TOWN, 0, (1,), thing), bool)
+            self.assertIsInstance(games.driver_holds(TOWN, thing), bool)
+            self.assertIsInstance(games.foe_holds(TOWN, thing), bool)
+            self.assertIsInstance(underway.is_standing(TOWN, thing), bool)
+            for left in ((), (2,)):
+                self.assertIsInstance(underway.is_sure_order(TOWN, (1, 0, 0, 0, left), thing), bool)
+                self.assertIsInstance(underway.rest_holds(TOWN, (1, 0, 0, 0, left), thing), bool)
         for g in range(4):
             self.assertIsInstance(plans.is_sure_plan(TOWN, g, ((1, 2),)), bool)
             self.assertIsInstance(sure.is_sure(TOWN, (1, 2), g), bool)

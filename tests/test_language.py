@@ -37,7 +37,7 @@ class Language(unittest.TestCase):
         for name, tree in trees():
             for node in ast.walk(tree):
                 if isinstance(node, (ast.FunctionDef, ast.ClassDef)):
-                    self.assertIsNotNone(ast.get_docstring(node) or node.name == "__init__" or None,
+                    self.assertIsNotNone(ast.get_docstring(node) or node.name in ("__init__", "__eq__") or None,
                                          f"{name}: {node.name}")
                 if isinstance(node, ast.FunctionDef):
                     self.assertLessEqual(node.end_lineno - node.lineno + 1, 40, f"{name}: {node.name}")
