@@ -2,9 +2,9 @@
 
 from latebyfew.errors import BadLabel, BadNumber, BadPath, BadPlace, BadPrices
 from latebyfew.growth import Growth, dominates, is_label_row
-from latebyfew.rounds import are_unlike_places, cost_of, is_tour
+from latebyfew.rounds import are_listed, are_unlike_places, cost_of, ends_of, is_tour
 from latebyfew.sure import check_budget, depot_row, is_sure, useful_budget
-from latebyfew.towns import COST, check_town, legs_by_ends
+from latebyfew.towns import COST, check_town
 from latebyfew.values import is_count, is_integer
 
 
@@ -40,10 +40,7 @@ def is_path(town, thing):
 
 def is_listed_path(town, thing):
     """The same, for what surely is a town."""
-    if not are_unlike_places(town, thing) or len(thing) == 0:
-        return False
-    legs = legs_by_ends(town)
-    return all([ends in legs for ends in zip((0,) + thing, thing)])
+    return are_unlike_places(town, thing) and len(thing) > 0 and are_listed(town, ends_of(thing)[:-1])
 
 
 def growth_of(town, g, prices):

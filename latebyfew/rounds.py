@@ -16,8 +16,13 @@ def is_tour(town, thing):
     """The same, for what surely is a town."""
     if not are_unlike_places(town, thing) or len(thing) == 0:
         return False
+    return are_listed(town, ends_of(thing)) and fits(town, thing)
+
+
+def are_listed(town, rows):
+    """Whether the town has legs with all these ends."""
     legs = legs_by_ends(town)
-    return all([ends in legs for ends in ends_of(thing)]) and fits(town, thing)
+    return all([ends in legs for ends in rows])
 
 
 def are_unlike_places(town, thing):

@@ -125,7 +125,16 @@ def numbers_of(line, word):
     parts = line.split(" ")
     if parts[0] != word or not all([is_numeral(part) for part in parts[1:]]):
         return None
-    return tuple([int(part) for part in parts[1:]])
+    return tuple([number_of(part) for part in parts[1:]])
+
+
+def number_of(numeral):
+    """The integer that a numeral stands for."""
+    # Python reads no numeral of more than 4300 digits at once.
+    rest, digits = numeral[:-4000], numeral[-4000:]
+    if rest == "":
+        return int(digits)
+    return number_of(rest) * int("1" + "0" * 4000) + int(digits)
 
 
 def is_numeral(part):

@@ -2,7 +2,7 @@
 
 from latebyfew.errors import BadOrder, BadStanding
 from latebyfew.growth import VISITED, Growth, is_label_row
-from latebyfew.rounds import are_unlike_places, latest_begins, loads_of
+from latebyfew.rounds import are_listed, are_unlike_places, latest_begins, loads_of
 from latebyfew.sure import next_row, service_of, useful_budget
 from latebyfew.towns import COST, check_town, legs_by_ends
 from latebyfew.values import is_count
@@ -50,8 +50,7 @@ def is_order(town, standing, thing):
     place, left = standing[0], standing[4]
     if not are_unlike_places(town, thing) or sorted(thing) != sorted(left):
         return False
-    legs = legs_by_ends(town)
-    return all([ends in legs for ends in ends_from(place, thing)])
+    return are_listed(town, ends_from(place, thing))
 
 
 def is_sure_order(town, standing, thing):

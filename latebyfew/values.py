@@ -41,6 +41,6 @@ def greatest_number(numbers):
     return None if None in numbers else max(numbers)
 
 
-def sum_or_none(one, other):
-    """The sum of two numbers; None if one of them is None."""
-    return None if one is None or other is None else one + other
+def sum_or_none(number, other):
+    """The sum of a number and another one, or of a number and None, which is None."""
+    return None if other is None else number + other

@@ -34,6 +34,17 @@ ODD = (
 )
 
 
+def random_legs(draw, many, share):
+    """Legs of a town of that many places; about that share of all that could be."""
+    legs = []
+    for a in range(many + 1):
+        for b in range(many + 1):
+            if a != b and draw.random() < share:
+                usual = draw.randint(0, 5)
+                legs.append((a, b, usual, usual + draw.randint(0, 4), draw.randint(0, 9)))
+    return tuple(legs)
+
+
 def random_town(seed):
     """A town of up to four places with tight windows and loads."""
     draw = Random(seed)
@@ -43,13 +54,8 @@ def random_town(seed):
         start = draw.randint(0, 12)
         places.append((start, start + draw.randint(0, 8), draw.randint(0, 3), draw.randint(0, 3),
                        draw.randint(0, 3), draw.randint(0, 9)))
-    legs = []
-    for a in range(many + 1):
-        for b in range(many + 1):
-            if a != b and draw.random() < 0.8:
-                usual = draw.randint(0, 5)
-                legs.append((a, b, usual, usual + draw.randint(0, 4), draw.randint(0, 9)))
-    return (tuple(places), tuple(legs), draw.randint(5, 30), draw.randint(2, 7))
+    legs = random_legs(draw, many, 0.8)
+    return (tuple(places), legs, draw.randint(5, 30), draw.randint(2, 7))
 
 
 def roomy_town(seed, many):
@@ -60,13 +66,8 @@ def roomy_town(seed, many):
         start = draw.randint(0, 9)
         places.append((start, start + draw.randint(3, 25), draw.randint(0, 2), draw.randint(0, 3),
                        draw.randint(0, 3), draw.randint(0, 12)))
-    legs = []
-    for a in range(many + 1):
-        for b in range(many + 1):
-            if a != b and draw.random() < 0.9:
-                usual = draw.randint(0, 5)
-                legs.append((a, b, usual, usual + draw.randint(0, 4), draw.randint(0, 9)))
-    return (tuple(places), tuple(legs), draw.randint(15, 45), draw.randint(3, 9))
+    legs = random_legs(draw, many, 0.9)
+    return (tuple(places), legs, draw.randint(15, 45), draw.randint(3, 9))
 
 
 # The town of the examples from part 7 on.
@@ -76,6 +77,8 @@ PAIR = (
     20,
     2,
 )
+# Sure for 1 late leg, but not for both: only the last step of its staircase differs.
+LAST = (((0, 9, 0, 0, 0, 0),), ((0, 1, 1, 2, 1), (1, 0, 1, 2, 1)), 3, 0)
 
 
 def changed(value, old, new):

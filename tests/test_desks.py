@@ -7,7 +7,7 @@ from latebyfew.desks import Desk, read_desk
 from latebyfew.errors import BadDeed, BadNumber, BadText, BadTown, BadWord, LateError, NothingToRedo, NothingToUndo
 from latebyfew.plans import staircase
 from latebyfew.towns import is_town, written
-from samples import EMPTY, ODD, ONE, PAIR, SIX, TOWN, full_town, random_town, roomy_town, with_bools, with_lists
+from samples import EMPTY, LAST, ODD, ONE, PAIR, SIX, TOWN, full_town, random_town, roomy_town, with_bools, with_lists
 
 PLACE = (1, 5, 2, 0, 3, 9)
 THREE = full_town(3)
@@ -277,6 +277,8 @@ class BadDeeds(unittest.TestCase):
         for odd in (*ODD, "add", ("add",), ("add", PLACE, 1), ("put", 1), ("put", 1, PLACE, 1), ("drop",), ("drop", 1, 1),
                     ("leg",), ("leg", *TOWN[1][0]), ("close", 0), ("close", (0, 1)), ("close", 0, 1, 2), ("end",),
                     ("end", 1, 2), ("room",), ("mark",), ("mark", "a", TOWN), ("back",), ("back", "old", 1),
+                    ("put", 1, PLACE, PLACE), ("lag", TOWN[1][3]), ("Drop", 1), ("ends", 3), ("place", 1), ("pit", 1, PLACE),
+                    ("clothe", 1, 2), ("marks", "a"), ("bark", "old"), ("close", 1, 2, 3), ("drop", 1, PLACE),
                     ["end", 1], ("Add", PLACE), ("open", 1), (None, 1), (("end",), 1), ("", 1), ("undo",), ("end", [1])):
             self.check(TOWN, odd)
 
@@ -391,6 +393,7 @@ class Texts(unittest.TestCase):
                 ("town 3 2\nMark a\ntown 3 2", 2), ("town 3 2\nmark  a\ntown 3 2", 2), ("town 3 2\nmark a \ntown 3 2", 2),
                 ("town 3 2\nmark a\nmark b\ntown 3 2", 3), ("town 3 2\nmark a\n", 3), ("town 3 2\nmark a\ntown 3", 3),
                 ("town 3 2\nmark b\ntown 3 2\nmark a\ntown 3 2", 4), ("town 3 2\nmark a\ntown 3 2\nmark a\ntown 3 2", 4),
+                ("town 3 2\nmark a\ntown 3 2\nmark c\ntown 3 2\nmark b\ntown 3 2", 6),
                 ("town 3 2\nmark b\ntown 3 2\nmark a", 4), ("town 3 2\nmark a\ntown 3 2\nmark b\ntown 03 2", 5),
                 ("town 3 2\nmark a\ntown 3 2\n", 4), ("town 3 2\nmark a\ntown 3 2\nplace 0 1 0 0 0 0\nplace 2 1 0 0 0 0", 5),
                 ("town 3 2\nplace 4 3 1 1 0 5\nmark a", 2), ("town 3 2\nleg 0 1 1 1 1\nmark a", 2),
@@ -456,6 +459,10 @@ class Questions(unittest.TestCase):
         self.assertEqual(desk.dearer("one", 2), ((8, 0), (8, 0), (8, 0)))
         self.assertEqual(desk.dearer("none", 0), ((0, 0), (0, 0)))
         self.assertEqual(desk.dearer("one", 0), ((None, 0),) * 3)
+        desk = read_desk(written(PAIR) + "\nmark last\n" + written(LAST))
+        self.assertEqual(desk.dearer("last", 1), ((2, 9), (2, 11), (None, 11), (None, 11)))
+        desk = read_desk(written(LAST) + "\nmark pair\n" + written(PAIR))
+        self.assertEqual(desk.dearer("pair", 1), ((9, 2), (11, 2), (11, None), (11, None)))
 
     def test_bad_word_is_ahead_of_bad_number(self):
         desk = done(PAIR, ("mark", "old"))

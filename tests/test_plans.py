@@ -8,9 +8,16 @@ from latebyfew.plans import is_plan, is_sure_plan, judge_plan, plan_attack, plan
 from latebyfew.rounds import rounds
 from reference import attacks
 from reference_labels import is_plan_certificate_by_words, least_plan_cost, sure_costs, sure_plans
-from samples import EMPTY, ODD, ONE, PAIR, TOWN, full_town, random_town, roomy_town, with_bools, with_lists
+from samples import EMPTY, LAST, ODD, ONE, PAIR, TOWN, full_town, random_town, roomy_town, with_bools, with_lists
 
-TOWNS = (TOWN, PAIR, ONE, EMPTY, *[random_town(seed) for seed in range(20)],
+# The more rounds, the less they cost: legs between places are dear.
+STAR = (
+    tuple((0, 99, 0, 0, 0, 0) for _ in range(4)),
+    tuple((a, b, 1, 2, 50 + a + b if a and b else 1) for a in range(5) for b in range(5) if a != b),
+    99,
+    0,
+)
+TOWNS = (TOWN, PAIR, ONE, EMPTY, STAR, LAST, *[random_town(seed) for seed in range(20)],
          *[roomy_town(seed, 2 + seed % 3) for seed in range(24)])
 STEEP = [(PAIR[0], PAIR[1], end, 2) for end in range(10, 16)]
 FIVE = [roomy_town(seed, 5) for seed in range(3)]
@@ -185,6 +192,11 @@ class Staircases(unittest.TestCase):
                     self.assertEqual(sureness(town, 2, g, h), expected)
                     if expected is not None:
                         self.assertGreaterEqual(expected, 0)
+
+    def test_the_last_step_alone(self):
+        self.assertEqual(staircase(LAST, 1), (2, 2, None))
+        self.assertEqual([sureness(LAST, 1, g, h) for g, h in ((0, 1), (1, 1), (1, 2), (2, 2), (0, 9), (8, 9))],
+                         [0, 0, None, None, None, None])
 
     def test_sureness_at_its_edges(self):
         steep = (PAIR[0], PAIR[1], 14, 2)

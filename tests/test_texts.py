@@ -167,6 +167,27 @@ class Texts(unittest.TestCase):
         self.assertEqual(len(written(SIX).split("\n")), 49)
         self.assertEqual(read("town 1" + 2000 * "0" + " 2"), ((), (), 10 ** 2000, 2))
 
+    def test_numerals_that_python_does_not_read_at_once(self):
+        for many in (3999, 4000, 4001, 4300, 4301, 8001):
+            for numeral in ("9" * many, "1" + "0" * (many - 1), "12" * (many // 2)):
+                found = read("town 3 " + numeral)
+                self.assertTrue(is_town(found))
+                self.assertEqual(sum(int(digit) for digit in numeral), digit_sum(found[3]))
+                self.assertEqual(found[3] % 10 ** 60, int(numeral[-60:]))
+                self.assertTrue(10 ** (many - 2) < found[3] < 10 ** many)
+            for text, at in (("town " + "9" * many, 1), ("town 3 2\nplace 1 " + "9" * many, 2),
+                             ("town 3 2\nleg " + "9" * many + " 0 1 1 1", 2), ("town 3 0" + "9" * many, 1)):
+                self.check_bad(text, at)
+
+
+def digit_sum(number):
+    """The sum of the digits of a number, however long it is."""
+    found = 0
+    while number:
+        number, digits = divmod(number, 10 ** 500)
+        found += sum(int(digit) for digit in str(digits))
+    return found
+
 
 if __name__ == "__main__":
     unittest.main()

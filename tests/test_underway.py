@@ -392,6 +392,10 @@ class Certificates(unittest.TestCase):
             self.assertIs(rest_holds(PAIR, standing, with_table(thing, thing[2] + (odd,))), False)
         for word in ("Order", "none", "least", "", None, 1):
             self.assertIs(rest_holds(PAIR, standing, (word, *thing[1:])), False)
+        none = judge_rest(PAIR, (1, 5, 1, 0, (2,)))
+        self.assertEqual(none[0], "none")
+        for word in ("None", "order", "", None, 0):
+            self.assertIs(rest_holds(PAIR, (1, 5, 1, 0, (2,)), (word, none[1])), False)
 
 
 class Errors(unittest.TestCase):
