@@ -19,7 +19,7 @@ def after_deed(town, marks, deed):
 
 
 def town_after(town, deed):
-    """What a deed with a word and one to two parts makes of a town, if it is a town; None for many that cannot be."""
+    """What a deed makes of a town, which need not be a town; None if what it is about is not there."""
     places, legs, end, room = town
     word, parts = deed[0], deed[1:]
     if len(parts) == 1:

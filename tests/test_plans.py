@@ -10,12 +10,12 @@ from reference import attacks
 from reference_labels import is_plan_certificate_by_words, least_plan_cost, sure_costs, sure_plans
 from samples import EMPTY, LAST, ODD, ONE, PAIR, TOWN, full_town, random_town, roomy_town, with_bools, with_lists
 
-# The more rounds, the less they cost: legs between places are dear.
+# The more rounds, the less they cost: legs between places are dear. A round has room for two places.
 STAR = (
-    tuple((0, 99, 0, 0, 0, 0) for _ in range(4)),
+    tuple((0, 99, 0, 1, 0, 0) for _ in range(4)),
     tuple((a, b, 1, 2, 50 + a + b if a and b else 1) for a in range(5) for b in range(5) if a != b),
     99,
-    0,
+    2,
 )
 TOWNS = (TOWN, PAIR, ONE, EMPTY, STAR, LAST, *[random_town(seed) for seed in range(20)],
          *[roomy_town(seed, 2 + seed % 3) for seed in range(24)])
