@@ -1,8 +1,8 @@
 """Deeds on a town and its marks: what results from each one."""
 
-from latebyfew.rounds import are_unlike_places
+from latebyfew.rounds import are_listed, are_unlike_places
 from latebyfew.towns import is_leg_row, is_town
-from latebyfew.values import is_count
+from latebyfew.values import is_count_row
 
 
 def after_deed(town, marks, deed):
@@ -37,14 +37,9 @@ def town_after(town, deed):
     if len(parts) == 2:
         if word == "put" and are_unlike_places(town, parts[:1]):
             return (places[:parts[0] - 1] + parts[1:] + places[parts[0]:], legs, end, room)
-        if word == "close" and all([is_count(part) for part in parts]) and is_listed(legs, parts):
+        if word == "close" and is_count_row(parts, 2) and are_listed(town, [parts]):
             return (places, without_ends(legs, parts), end, room)
     return None
-
-
-def is_listed(legs, ends):
-    """Whether a leg with these ends is listed."""
-    return ends in [leg[:2] for leg in legs]
 
 
 def without_ends(legs, ends):
