@@ -198,6 +198,12 @@ class Staircases(unittest.TestCase):
         self.assertEqual([sureness(LAST, 1, g, h) for g, h in ((0, 1), (1, 1), (1, 2), (2, 2), (0, 9), (8, 9))],
                          [0, 0, None, None, None, None])
 
+    def test_the_last_step_rises_to_a_number(self):
+        legs = tuple((a, b, 1, 2, 1) for a in range(3) for b in range(3) if a != b)
+        town = (((0, 9, 0, 0, 0, 0),) * 2, legs, 5, 0)
+        self.assertEqual([staircase(town, 1), staircase(town, 2)], [(3, 3, 3, None), (3, 3, 3, 4)])
+        self.assertEqual([sureness(town, 2, g, h) for g, h in ((0, 2), (2, 3), (3, 3), (3, 9), (8, 9))], [0, 1, 0, 0, 0])
+
     def test_sureness_at_its_edges(self):
         steep = (PAIR[0], PAIR[1], 14, 2)
         self.assertEqual([staircase(steep, 1), staircase(steep, 2)], [(9, 11, None, None), (9, 11, 14, 14)])
